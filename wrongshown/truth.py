@@ -1,0 +1,50 @@
+"""What is right and wrong at given words, whatever a form shows of it."""
+
+from wrongshown.errors import InvalidWords, UnknownWord
+
+
+def near_entry(form, words, name):
+    """The entry of the near table of a field at given words."""
+    check_words(form, words)
+    first, looks, near, far = form.parts_of(name)
+    entry = near[word_index(form, words, name)]
+    if looks is None:
+        return entry
+    return entry[word_index(form, words, looks)]
+
+
+def far_entry(form, name, word):
+    """The entry of the far table of a field for a word, None if there is no far table."""
+    first, looks, near, far = form.parts_of(name)
+    if word not in form.words:
+        raise UnknownWord(word)
+    if far is None:
+        return None
+    return far[form.words.index(word)]
+
+
+def true_error(form, words, name):
+    """The near entry of a field at given words if it is a message, otherwise the far entry."""
+    entry = near_entry(form, words, name)
+    if entry is not None:
+        return entry
+    return far_entry(form, name, words[form.field_names().index(name)])
+
+
+def true_errors(form, words):
+    """The true error of each field at given words, in the order of the form."""
+    check_words(form, words)
+    return tuple([true_error(form, words, name) for name in form.field_names()])
+
+
+def check_words(form, words):
+    """Refuse any value that is not a tuple with one word of the form for each field."""
+    if not isinstance(words, tuple) or len(words) != len(form.fields):
+        raise InvalidWords(words)
+    if not all([word in form.words for word in words]):
+        raise InvalidWords(words)
+
+
+def word_index(form, words, name):
+    """The index, in the words of the form, of the word that a field holds."""
+    return form.words.index(words[form.field_names().index(name)])
