@@ -1,6 +1,7 @@
 """Values of any kind, and forms that several tests use."""
 
 from wrongshown.forms import Form
+from wrongshown.rules import all_rules
 
 
 def nested(depth, wrap):
@@ -61,4 +62,86 @@ def example_form():
             ("a", ("off", None, (None, "m"), None)),
             ("b", ("off", "a", ((None, "x"), (None, None)), (None, "far"))),
         ),
+    )
+
+
+def two_far_form():
+    """Two fields of one shape with far tables: off is right for both, on is wrong afar."""
+    entries = ("off", None, (None, None), (None, "far"))
+    return Form(("off", "on"), (("c", entries), ("d", entries)))
+
+
+def lone_form():
+    """One field: the word mid is wrong near, the words on and mid are wrong afar."""
+    return Form(("off", "on", "mid"), (("f", ("off", None, (None, None, "m"), (None, "far", "low"))),))
+
+
+def many_forms():
+    """Forms of one to three fields, of two and three words, with and without far tables."""
+    none, some = (None, None), (None, "g")
+    wide = ((None, "x", None), ("y", None, None), (None, None, "z"))
+    return [
+        example_form(),
+        two_far_form(),
+        two_far_form().with_room(1),
+        lone_form(),
+        lone_form().with_room(1),
+        Form(("on", "off"), (("a", ("off", "b", ((None, "m"), ("m", None)), some)),
+                             ("b", ("on", "a", (("n", None), (None, None)), none))), room=2),
+        Form(("off", "on"), (("c", ("off", "a", (none, (None, "p")), ("q", None))),
+                             ("a", ("on", None, none, some)),
+                             ("b", ("off", "a", (some, none), (None, "r")))), room=2),
+        Form(("p", "q", "r"), (("q", ("r", "p", wide, (None, None, "s"))),
+                               ("p", ("p", "r", wide, None)),
+                               ("r", ("q", "q", wide, ("s", "t", None))))),
+        Form(("off", "on"), (("a", ("off", "b", (some, none), None)),
+                             ("b", ("on", None, ("w", None), None)))),
+    ]
+
+
+def many_rules():
+    """All rules that are listed, and some whose part around are pairs."""
+    arounds = [
+        (), (("a", "b"),), (("b", "a"), ("c", "d")), (("a", "b"), ("a", "c"), ("b", "a"), ("z", "a")),
+        (("d", "c"), ("q", "p"), ("r", "q"), ("p", "r"), ("p", "q"), ("c", "a"), ("b", "c")),
+    ]
+    rules = all_rules()
+    for at, rule in enumerate(rule for rule in rules if rule.around == "own"):
+        rules.append(rule.with_part("around", arounds[at % len(arounds)]))
+    return rules
+
+
+def standing_of(form, words, opened="", *, errors=None, known=None, asked=(), waiting=False):
+    """A standing; the words and the names of the open fields stand in a text each."""
+    names = form.field_names()
+    return (
+        tuple(words.split()),
+        tuple(name in opened.split() for name in names),
+        tuple((errors or {}).get(name) for name in names),
+        tuple((known or {}).get(name) for name in names),
+        tuple(asked),
+        waiting,
+    )
+
+
+def any_standing(form, rule, dice):
+    """A standing of any kind, most often one that no sequence of deeds reaches."""
+    messages = [None, "m", "far", dice.choice("abcxyz") * 8]
+    far = {name: parts[3] for name, parts in form.fields if parts[3] is not None}
+    known = []
+    for name in form.field_names():
+        at = dice.randrange(len(form.words))
+        pair = (form.words[at], far[name][at]) if name in far else None
+        known.append(dice.choice([None, pair]))
+    asked = tuple(
+        (dice.choice(sorted(far)), dice.choice(form.words), dice.random() < 0.6)
+        for _ in range(dice.randrange(form.room + 1) if far else 0)
+    )
+    return (
+        tuple(dice.choice(form.words) for _ in known),
+        tuple(dice.random() < 0.6 for _ in known),
+        tuple(dice.choice(messages) if dice.random() < 0.5 else None for _ in known),
+        tuple(known),
+        asked,
+        rule.sending == "wait" and asked != () and dice.random() < 0.6,
     )

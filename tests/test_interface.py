@@ -5,7 +5,7 @@ import inspect
 import pathlib
 import unittest
 
-from wrongshown import errors, forms, rules, truth
+from wrongshown import doing, errors, forms, judge, live, rules, standings, truth
 
 # Each function with its arguments; a method stands behind the name of its class.
 SIGNATURES = {
@@ -33,7 +33,42 @@ SIGNATURES = {
         "Rule.named": "(text)",
         "all_rules": "()",
     },
+    standings: {
+        "is_standing": "(form, rule, value)",
+        "is_deed": "(form, value)",
+        "deeds": "(form, *, resets=True)",
+    },
+    doing: {
+        "begin": "(form, rule)",
+        "step": "(form, rule, standing, deed)",
+    },
+    judge: {
+        "faults": "(form, rule, step)",
+    },
+    live: {
+        "Live.__init__": "(self, form, rule, *, standing=None)",
+        "Live.perform": "(self, deed)",
+        "Live.leave": "(self, name)",
+        "Live.send": "(self)",
+        "Live.answer": "(self, k)",
+        "Live.reset": "(self)",
+        "Live.__getitem__": "(self, at)",
+        "Live.__setitem__": "(self, at, worth)",
+        "Live.__contains__": "(self, x)",
+        "Live.__iadd__": "(self, other)",
+        "Live.trial": "(self, deeds)",
+        "Live.standing": "(self)",
+        "Live.last_events": "(self)",
+        "Live.deeds_done": "(self)",
+        "Live.__len__": "(self)",
+        "Live.seen": "(self)",
+        "Live.sent": "(self)",
+        "Live.undo": "(self)",
+        "Live.fork": "(self)",
+    },
 }
+# Properties of classes; a class that is listed without one has none.
+PROPERTIES = {forms.Form: [], rules.Rule: [], doing.Step: [], live.Live: ["errors", "waiting"]}
 
 
 def defined_in(module):
@@ -67,8 +102,19 @@ class InterfaceTests(unittest.TestCase):
         self.assertEqual(len(names), 21)
 
     def test_the_classes_stand_under_no_other_class(self):
-        self.assertEqual(forms.Form.__bases__, (object,))
-        self.assertEqual(rules.Rule.__bases__, (object,))
+        for kind in PROPERTIES:
+            self.assertEqual(kind.__bases__, (object,))
+
+    def test_the_classes_are_defined_in_their_files_with_their_properties(self):
+        for module, kind in ((forms, forms.Form), (rules, rules.Rule), (doing, doing.Step),
+                             (live, live.Live)):
+            self.assertIn(kind.__name__, defined_in(module))
+            found = [name for name, item in vars(kind).items() if isinstance(item, property)]
+            self.assertEqual(sorted(found), PROPERTIES[kind])
+
+    def test_the_tuples_of_names(self):
+        self.assertIsInstance(judge.KINDS, tuple)
+        self.assertIsInstance(rules.PARTS, tuple)
 
     def test_named_is_a_class_method(self):
         self.assertIs(rules.Rule.named.__self__, rules.Rule)

@@ -72,6 +72,29 @@ def bound_names(node):
     return []
 
 
+def functions():
+    """The functions and methods of the package by their names; a name may stand for several."""
+    found = {}
+    for path, node in nodes(ast.FunctionDef):
+        found.setdefault(node.name, []).append(node)
+    return found
+
+
+def called_names(node):
+    """The names of the functions and methods that are called in a function."""
+    calls = [item.func for item in ast.walk(node) if isinstance(item, ast.Call)]
+    return [getattr(call, "id", getattr(call, "attr", "")) for call in calls]
+
+
+def properties(node):
+    """The properties in the body of a class."""
+    return [
+        item for item in node.body
+        if isinstance(item, ast.FunctionDef)
+        and "property" in [ast.unparse(decorator) for decorator in item.decorator_list]
+    ]
+
+
 class FileTests(unittest.TestCase):
     def test_l1_l14_files(self):
         self.assertIn(PACKAGE / "__init__.py", FILES)
@@ -140,6 +163,19 @@ class NameTests(unittest.TestCase):
                     self.assertFalse(name.startswith("_"), where)
                     self.assertFalse(hasattr(builtins, name), where)
                     self.assertNotIn(name, BARRED_NAMES, where)
+
+    def test_l15_no_name_inside_is_that_of_a_class_or_an_import(self):
+        for path, tree in trees():
+            outer = {
+                name for item in tree.body if isinstance(item, (ast.ImportFrom, ast.ClassDef))
+                for part in getattr(item, "names", [item]) for name in bound_names(part)
+            }
+            for function in [node for node in ast.walk(tree) if isinstance(node, ast.FunctionDef)]:
+                for node in ast.walk(function):
+                    if isinstance(node, ast.FunctionDef) and node == function:
+                        continue
+                    where = f"{path}:{getattr(node, 'lineno', 0)}"
+                    self.assertEqual(set(bound_names(node)) & outer, set(), where)
 
     def test_l8_builtins(self):
         for path, tree in trees():
@@ -221,6 +257,75 @@ class StatementTests(unittest.TestCase):
             if node.exc is not None:
                 self.assertIsInstance(node.exc, ast.Call, f"{path}:{node.lineno}")
                 self.assertIsInstance(node.exc.func, ast.Name, f"{path}:{node.lineno}")
+
+    def test_l23_iterated_at_once(self):
+        takers = "list tuple dict sorted sum any all enumerate zip min max len reversed join".split()
+        for path, tree in trees():
+            allowed = set()
+            for node in ast.walk(tree):
+                if isinstance(node, (ast.For, ast.comprehension)):
+                    allowed.add(node.iter)
+                if isinstance(node, ast.Call) and set(called_names(ast.Expr(node))) & set(takers):
+                    allowed.update(node.args[:1])
+            for node in ast.walk(tree):
+                if isinstance(node, ast.Call):
+                    name = getattr(node.func, "id", getattr(node.func, "attr", ""))
+                    if name in ("zip", "enumerate", "reversed", "range", "items", "keys", "values"):
+                        self.assertIn(node, allowed, f"{path}:{node.lineno}")
+
+
+class OperatorTests(unittest.TestCase):
+    # These may change something, or are no operators.
+    CHANGING = {"__init__", "__setitem__", "__enter__", "__exit__", "__call__", "__slots__"}
+    MODIFYING = set("append clear extend insert pop remove reverse setdefault update sort".split())
+
+    def test_l5_what_has_items_says_how_it_is_iterated_over(self):
+        for path, node in nodes(ast.ClassDef):
+            names = [item.name for item in node.body if isinstance(item, ast.FunctionDef)]
+            if "__getitem__" in names:
+                self.assertIn("__iter__", names, f"{path}:{node.lineno}")
+
+    def test_l5_l18_properties(self):
+        kept = {node.attr for _, node in nodes(ast.Attribute) if isinstance(node.ctx, ast.Store)}
+        for path, node in nodes(ast.ClassDef):
+            for item in properties(node):
+                self.assertNotIn(item.name, kept, f"{path}:{item.lineno}")
+                self.assertEqual(len(functions()[item.name]), 1, f"{path}:{item.lineno}")
+
+    def reached(self):
+        """What operators and properties call, each of them included, however many calls away."""
+        named = functions()
+        pure = {
+            word for word in DUNDERS - self.CHANGING
+            if not (word.startswith("__i") and f"__{word[3:]}" in DUNDERS)
+        }
+        todo = [node for word in pure for node in named.get(word, [])]
+        todo.extend(item for _, node in nodes(ast.ClassDef) for item in properties(node))
+        found = []
+        while todo:
+            node = todo.pop()
+            if node not in found:
+                found.append(node)
+                todo.extend(other for name in called_names(node) for other in named.get(name, []))
+        return found
+
+    def test_l5_operators_and_properties_change_nothing(self):
+        reached = self.reached()
+        self.assertIn("names_of", [node.name for node in reached])
+        self.assertNotIn("__iadd__", [node.name for node in reached])
+        for function in reached:
+            own = [
+                name for node in ast.walk(function) if isinstance(node, ast.Assign)
+                and isinstance(node.value, (ast.List, ast.ListComp))
+                for target in node.targets for name in bound_names(target)
+            ]
+            for node in ast.walk(function):
+                where = f"{function.name}:{getattr(node, 'lineno', 0)}"
+                self.assertNotIsInstance(node, (ast.AugAssign, ast.Delete), where)
+                if isinstance(node, (ast.Attribute, ast.Subscript)):
+                    self.assertNotIsInstance(node.ctx, ast.Store, where)
+                if isinstance(node, ast.Attribute) and node.attr in self.MODIFYING:
+                    self.assertIn(getattr(node.value, "id", ""), own, where)
 
 
 if __name__ == "__main__":

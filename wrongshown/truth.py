@@ -1,6 +1,7 @@
 """What is right and wrong at given words, whatever a form shows of it."""
 
 from wrongshown.errors import InvalidWords, UnknownWord
+from wrongshown.plain import has_items
 
 
 def near_entry(form, words, name):
@@ -37,11 +38,20 @@ def true_errors(form, words):
     return tuple([true_error(form, words, name) for name in form.field_names()])
 
 
+def has_far(form, name):
+    """True if a field has a far table, so that the far house can be asked about it."""
+    first, looks, near, far = form.parts_of(name)
+    return far is not None
+
+
+def are_words(form, value):
+    """True for a tuple with one word of the form for each field; the value is any value."""
+    return has_items(value, len(form.fields)) and all([word in form.words for word in value])
+
+
 def check_words(form, words):
     """Refuse any value that is not a tuple with one word of the form for each field."""
-    if not isinstance(words, tuple) or len(words) != len(form.fields):
-        raise InvalidWords(words)
-    if not all([word in form.words for word in words]):
+    if not are_words(form, words):
         raise InvalidWords(words)
 
 
