@@ -292,9 +292,8 @@ class OperatorTests(unittest.TestCase):
                 self.assertNotIn(item.name, kept, f"{path}:{item.lineno}")
                 self.assertEqual(len(functions()[item.name]), 1, f"{path}:{item.lineno}")
 
-    def reached(self):
+    def reached(self, named):
         """What operators and properties call, each of them included, however many calls away."""
-        named = functions()
         pure = {
             word for word in DUNDERS - self.CHANGING
             if not (word.startswith("__i") and f"__{word[3:]}" in DUNDERS)
@@ -309,8 +308,47 @@ class OperatorTests(unittest.TestCase):
                 todo.extend(other for name in called_names(node) for other in named.get(name, []))
         return found
 
+    def with_making(self):
+        """The functions by their names, and what makes the objects of a class by the name of the class."""
+        named = functions()
+        for path, node in nodes(ast.ClassDef):
+            named[node.name] = [
+                item for item in node.body
+                if isinstance(item, ast.FunctionDef) and item.name == "__init__"
+            ]
+        return named
+
+    def held_calls(self, function, held):
+        """The names of what a function calls although it is passed, or stored in an attribute."""
+        passed = {node.arg for node in ast.walk(function) if isinstance(node, ast.arg)}
+        calls = [node.func for node in ast.walk(function) if isinstance(node, ast.Call)]
+        return [
+            getattr(call, "id", getattr(call, "attr", ast.unparse(call))) for call in calls
+            if not isinstance(call, (ast.Name, ast.Attribute))
+            or getattr(call, "id", "") in passed or getattr(call, "attr", "") in held
+        ]
+
+    def test_l5_l28_operators_and_properties_call_nothing_that_they_are_passed_or_hold(self):
+        held = {node.attr for _, node in nodes(ast.Attribute) if isinstance(node.ctx, ast.Store)}
+        self.assertLessEqual({"index", "field", "words", "form", "done"}, held)
+        reached = self.reached(self.with_making())
+        names = [node.name for node in reached]
+        self.assertLessEqual({"__getitem__", "__contains__", "standing", "errors", "__init__"}, set(names))
+        for function in reached:
+            where = f"{function.name}:{function.lineno}"
+            self.assertEqual(self.held_calls(function, held), [], where)
+
+    def test_l5_l28_what_counts_as_calling_what_is_held(self):
+        for row, wanted in (
+            ("names.index(at)", ["index"]), ("self.form.index(at)", ["index"]), ("at(1)", ["at"]),
+            ("rows[0](1)", ["rows[0]"]), ("len(at)", []), ("self.standing()", []),
+            ("[name for name in names if name == at]", []), ("self.index", []),
+        ):
+            tree = ast.parse(f"def told(self, at):\n    return {row}")
+            self.assertEqual(self.held_calls(tree.body[0], {"index", "form"}), wanted)
+
     def test_l5_operators_and_properties_change_nothing(self):
-        reached = self.reached()
+        reached = self.reached(functions())
         self.assertIn("names_of", [node.name for node in reached])
         self.assertNotIn("__iadd__", [node.name for node in reached])
         for function in reached:

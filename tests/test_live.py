@@ -232,6 +232,25 @@ class ItemTests(LiveTests):
         self.assertEqual((self.live["a"], self.live["b"]), ("off", "on"))
         self.assert_told(self.live, self.start, [("enter", "b", "on")])
 
+    def test_the_words_of_one_to_three_fields_behind_deeds(self):
+        dice = random.Random(9)
+        counts = set()
+        for form in many_forms():
+            names = form.field_names()
+            counts.add(len(names))
+            live = Live(form, Rule("send", "leave", "own"))
+            words = dict(zip(names, plainway.start(form)[0]))
+            self.assertEqual({name: live[name] for name in names}, words)
+            for _ in range(8):
+                name, word = dice.choice(names), dice.choice(form.words)
+                live.perform(("enter", name, word))
+                words[name] = word
+                self.assertEqual({name: live[name] for name in names}, words)
+                for value in ("zz", *form.words, names, 0):
+                    if value not in names:
+                        self.assert_unchanged(live, lambda: live[value], UnknownField, field=value)
+        self.assertEqual(counts, {1, 2, 3})
+
     def test_another_word_is_entered(self):
         self.live["a"] = "on"
         self.assertEqual(self.live.last_events(),

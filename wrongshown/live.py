@@ -54,10 +54,10 @@ class Live:
         return self.perform(("reset",))
 
     def __getitem__(self, at):
-        names = self.form.field_names()
-        if at not in names:
-            raise UnknownField(at)
-        return self.standing()[0][names.index(at)]
+        for name, word in zip(self.form.field_names(), self.standing()[0]):
+            if name == at:
+                return word
+        raise UnknownField(at)
 
     def __setitem__(self, at, worth):
         held = self[at]
