@@ -145,3 +145,31 @@ def any_standing(form, rule, dice):
         asked,
         rule.sending == "wait" and asked != () and dice.random() < 0.6,
     )
+
+
+def small_forms():
+    """Forms of one to three fields and rooms 1 to 3 whose books have few standings."""
+    none = (None, None)
+    looking = (
+        ("b", ("off", "a", ((None, "x"), ("y", None)), (None, "g"))),
+        ("a", ("on", None, (None, "m"), None)),
+    )
+    return [
+        Form(("off", "on"), (("f", ("off", None, ("m", None), None)),)),
+        Form(("off", "on"), (("f", ("off", None, ("m", None), ("m", "n"))),), room=2),
+        lone_form(),
+        lone_form().with_room(1),
+        Form(("off", "on"), (("a", ("off", "b", ((None, "g"), none), None)),
+                             ("b", ("on", None, ("w", None), None)))),
+        Form(("p", "q", "r"), (("x", ("p", "y", ((None, "m", None), ("m", None, None), (None, None, "n")), None)),
+                               ("y", ("q", None, (None, "t", None), None))), room=2),
+        example_form().with_room(1),
+        two_far_form().with_room(1),
+        Form(("on", "off"), looking, room=1),
+        Form(("off", "on"), (("c", ("off", "a", ((None, "p"), none), None)),
+                             ("a", ("on", None, (None, "q"), None)),
+                             ("b", ("off", "c", (("r", None), none), None)))),
+        Form(("off", "on"), (("c", ("off", "a", ((None, "p"), none), None)),
+                             ("a", ("on", None, none, None)),
+                             ("b", ("off", "c", (none, (None, "s")), (None, "s")))), room=1),
+    ]

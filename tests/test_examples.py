@@ -4,13 +4,22 @@ import unittest
 
 from samples import example_form
 
+from wrongshown.books import Book, is_closed, shows_free
 from wrongshown.doing import begin, step
-from wrongshown.errors import InvalidForm, TooManyAsked
+from wrongshown.errors import InvalidForm, InvalidText, LimitExceeded, TooManyAsked
 from wrongshown.forms import Form
 from wrongshown.judge import faults
+from wrongshown.lists import least_pairs, needed
 from wrongshown.live import Live
 from wrongshown.rules import Rule
+from wrongshown.texts import format_deeds, format_form, parse_form
 from wrongshown.truth import true_errors
+from wrongshown.verdicts import Verdict
+
+
+def short_form():
+    """The form of the examples of books: one field, whose first word is wrong."""
+    return Form(("off", "on"), (("f", ("off", None, ("m", None), None)),))
 
 
 class ExampleTests(unittest.TestCase):
@@ -101,6 +110,68 @@ class ExampleTests(unittest.TestCase):
         self.assertEqual(
             [live.errors, live["a"], len(live), live.trial([("send",)])],
             [{"a": "m"}, "on", 3, [("m", "x")]],
+        )
+
+    def test_the_text_of_a_form(self):
+        self.assertEqual(
+            format_form(example_form()),
+            "words off on\nroom 3\nfield a\nfirst off\nalone\nnear - m\n"
+            "field b\nfirst off\nlooks a\nnear - x\nnear - -\nfar - far\n",
+        )
+
+    def test_a_text_that_is_none_of_a_form(self):
+        with self.assertRaises(InvalidText) as caught:
+            parse_form("words off on\nroom 3\nfield a\nfirst off\nnear - m\n")
+        self.assertEqual(caught.exception.line, 5)
+        self.assertEqual(repr(caught.exception), "InvalidText(5)")
+
+    def test_the_text_of_deeds(self):
+        self.assertEqual(
+            format_deeds([("enter", "a", "on"), ("answer", 2), ("send",)]),
+            "enter a on\nanswer 2\nsend\n",
+        )
+
+    def test_a_book(self):
+        book = Book(short_form(), Rule("enter", "leave", "own"))
+        self.assertEqual([len(book), book.faults()], [5, [("unshown", "f"), ("stale", "f")]])
+        self.assertEqual(book.least_fault("stale", "f"), (("leave", "f"), ("enter", "f", "on")))
+        self.assertEqual(book.standings()[4], (("on",), (True,), ("m",), (None,), (), False))
+        self.assertEqual(
+            book.deeds_between(book.standings()[1], book.standings()[4]),
+            (("enter", "f", "off"), ("leave", "f"), ("enter", "f", "on")),
+        )
+
+    def test_a_book_with_more_standings_than_the_limit(self):
+        with self.assertRaises(LimitExceeded) as caught:
+            Book(short_form(), Rule("enter", "leave", "own"), limit=4)
+        self.assertEqual(repr(caught.exception), "LimitExceeded(4)")
+
+    def test_closed_lists(self):
+        form = short_form()
+        rule = Rule("enter", "leave", "own")
+        standings = Book(form, rule).standings()
+        self.assertEqual(
+            [is_closed(form, rule, standings), is_closed(form, rule, standings[:4]),
+             shows_free(form, rule, standings, "stuck")],
+            [True, False, True],
+        )
+
+    def test_verdicts(self):
+        first = Verdict([("stale", "g"), ("unshown", "f"), ("stale", "f")])
+        self.assertEqual(
+            [first.pairs(), (first ^ Verdict([("stale", "f"), ("full", "f")])).pairs()],
+            [[("unshown", "f"), ("stale", "f"), ("stale", "g")],
+             [("unshown", "f"), ("stale", "g"), ("full", "f")]],
+        )
+
+    def test_needed_pairs_and_least_pairs(self):
+        form = Form(("off", "on"), (
+            ("f", ("off", None, (None, None), None)),
+            ("g", ("off", "f", (("m", None), (None, None)), None)),
+        ))
+        self.assertEqual(
+            [needed(form), least_pairs(form, Rule("enter", "enter", "own"), ["unshown", "stale"])],
+            [[("f", "g")], [(("f", "g"),)]],
         )
 
 

@@ -3,9 +3,12 @@
 import ast
 import inspect
 import pathlib
+import sys
 import unittest
 
-from wrongshown import doing, errors, forms, judge, live, rules, standings, truth
+from wrongshown import (
+    books, doing, errors, forms, judge, lists, live, rules, standings, texts, truth, verdicts,
+)
 
 # Each function with its arguments; a method stands behind the name of its class.
 SIGNATURES = {
@@ -66,9 +69,52 @@ SIGNATURES = {
         "Live.undo": "(self)",
         "Live.fork": "(self)",
     },
+    texts: {
+        "format_form": "(form)",
+        "parse_form": "(text)",
+        "format_deeds": "(deeds)",
+        "parse_deeds": "(text)",
+    },
+    books: {
+        "Book.__init__": "(self, form, rule, *, resets=True, limit=2000)",
+        "Book.__len__": "(self)",
+        "Book.__contains__": "(self, x)",
+        "Book.moves": "(self)",
+        "Book.standings": "(self)",
+        "Book.least_run": "(self, standing)",
+        "Book.follow": "(self, standing, deed)",
+        "Book.faults": "(self)",
+        "Book.least_fault": "(self, kind, field)",
+        "Book.is_free": "(self, kind)",
+        "Book.stuck": "(self)",
+        "Book.verdict": "(self)",
+        "Book.deeds_between": "(self, first, second)",
+        "is_closed": "(form, rule, value, *, resets=True)",
+        "shows_free": "(form, rule, value, kind, *, resets=True)",
+    },
+    verdicts: {
+        "Verdict.__init__": "(self, pairs)",
+        "Verdict.pairs": "(self)",
+        "Verdict.kinds": "(self)",
+        "Verdict.only": "(self, kinds)",
+        "Verdict.__or__": "(self, other)",
+        "Verdict.__and__": "(self, other)",
+        "Verdict.__sub__": "(self, other)",
+        "Verdict.__xor__": "(self, other)",
+        "Verdict.__eq__": "(self, other)",
+        "Verdict.__len__": "(self)",
+        "Verdict.__contains__": "(self, x)",
+    },
+    lists: {
+        "needed": "(form)",
+        "least_pairs": "(form, rule, kinds, *, resets=True, limit=2000)",
+    },
 }
 # Properties of classes; a class that is listed without one has none.
-PROPERTIES = {forms.Form: [], rules.Rule: [], doing.Step: [], live.Live: ["errors", "waiting"]}
+PROPERTIES = {
+    forms.Form: [], rules.Rule: [], doing.Step: [], live.Live: ["errors", "waiting"], books.Book: [],
+    verdicts.Verdict: [],
+}
 
 
 def defined_in(module):
@@ -106,8 +152,9 @@ class InterfaceTests(unittest.TestCase):
             self.assertEqual(kind.__bases__, (object,))
 
     def test_the_classes_are_defined_in_their_files_with_their_properties(self):
-        for module, kind in ((forms, forms.Form), (rules, rules.Rule), (doing, doing.Step),
-                             (live, live.Live)):
+        for kind in PROPERTIES:
+            module = sys.modules[kind.__module__]
+            self.assertIn(module, [*SIGNATURES])
             self.assertIn(kind.__name__, defined_in(module))
             found = [name for name, item in vars(kind).items() if isinstance(item, property)]
             self.assertEqual(sorted(found), PROPERTIES[kind])

@@ -333,7 +333,10 @@ class OperatorTests(unittest.TestCase):
         self.assertLessEqual({"index", "field", "words", "form", "done"}, held)
         reached = self.reached(self.with_making())
         names = [node.name for node in reached]
-        self.assertLessEqual({"__getitem__", "__contains__", "standing", "errors", "__init__"}, set(names))
+        self.assertLessEqual(
+            {"__getitem__", "__contains__", "__xor__", "standing", "errors", "is_known", "__init__"},
+            set(names),
+        )
         for function in reached:
             where = f"{function.name}:{function.lineno}"
             self.assertEqual(self.held_calls(function, held), [], where)
@@ -348,9 +351,11 @@ class OperatorTests(unittest.TestCase):
             self.assertEqual(self.held_calls(tree.body[0], {"index", "form"}), wanted)
 
     def test_l5_operators_and_properties_change_nothing(self):
-        reached = self.reached(functions())
-        self.assertIn("names_of", [node.name for node in reached])
-        self.assertNotIn("__iadd__", [node.name for node in reached])
+        reached = self.reached(self.with_making())
+        names = [node.name for node in reached]
+        self.assertLessEqual({"is_standing", "field_names", "in_order", "__init__"}, set(names))
+        for name in ("__iadd__", "__ior__", "__isub__", "__setitem__"):
+            self.assertNotIn(name, names)
         for function in reached:
             own = [
                 name for node in ast.walk(function) if isinstance(node, ast.Assign)
@@ -360,7 +365,10 @@ class OperatorTests(unittest.TestCase):
             for node in ast.walk(function):
                 where = f"{function.name}:{getattr(node, 'lineno', 0)}"
                 self.assertNotIsInstance(node, (ast.AugAssign, ast.Delete), where)
-                if isinstance(node, (ast.Attribute, ast.Subscript)):
+                # What makes a new object may give it its attributes.
+                if isinstance(node, ast.Attribute) and function.name != "__init__":
+                    self.assertNotIsInstance(node.ctx, ast.Store, where)
+                if isinstance(node, ast.Subscript):
                     self.assertNotIsInstance(node.ctx, ast.Store, where)
                 if isinstance(node, ast.Attribute) and node.attr in self.MODIFYING:
                     self.assertIn(getattr(node.value, "id", ""), own, where)

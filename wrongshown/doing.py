@@ -2,7 +2,7 @@
 
 from wrongshown.errors import InvalidDeed, InvalidStanding, TooManyAsked
 from wrongshown.standings import all_closed, first_words, is_deed, is_standing, start_of
-from wrongshown.truth import far_entry, has_far, near_entry
+from wrongshown.truth import far_entry, has_far, near_of
 
 
 class Step:
@@ -26,6 +26,11 @@ def step(form, rule, standing, deed):
         raise InvalidStanding()
     if not is_deed(form, deed):
         raise InvalidDeed(deed)
+    return made_step(form, rule, standing, deed)
+
+
+def made_step(form, rule, standing, deed):
+    """The Step of a deed of the form from a standing, neither of which is judged again."""
     draft = Draft(form, rule, standing)
     do_deed(draft, deed)
     return Step(deed, standing, draft.result(), tuple(draft.events))
@@ -67,7 +72,7 @@ class Draft:
 
     def near_error(self, at):
         """The near entry of a field at the words of now."""
-        return near_entry(self.form, tuple(self.words), self.names[at])
+        return near_of(self.form, self.words, self.names[at])
 
     def check(self, at):
         """Check a field if it is open."""

@@ -12,6 +12,8 @@ class Form:
         self.words = words
         self.fields = fields
         self.room = room
+        # Kept beside the parts because each deed asks for the names many times.
+        self.names = tuple(names_of(fields))
 
     def __eq__(self, other):
         return (
@@ -23,7 +25,7 @@ class Form:
 
     def field_names(self):
         """The names of the fields in order."""
-        return tuple(names_of(self.fields))
+        return self.names
 
     def parts_of(self, name):
         """The tuple (first, looks, near, far) of a field."""

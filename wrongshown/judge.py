@@ -12,7 +12,7 @@ def faults(form, rule, step):
     pairs = []
     if is_at_rest(step.after):
         pairs.extend(faults_at_rest(form, step.after, truths))
-    pairs.extend([("elder", name) for name in form.field_names() if took_elder(form, step, name)])
+    pairs.extend([("elder", name) for name in elders(form, step)])
     if has_event(step, "sent"):
         pairs.extend(faults_of_sending(form, step.after, truths))
     return pairs
@@ -31,13 +31,13 @@ def faults_at_rest(form, standing, truths):
     return unshown + stale
 
 
-def took_elder(form, step, name):
-    """True if an answer about another word than the one that a field holds was taken for it."""
-    word = step.after[0][form.field_names().index(name)]
-    return any([
-        event[0] == "answered" and event[1] == name and event[2] != word and event[4]
-        for event in step.events
-    ])
+def elders(form, step):
+    """The fields for which an answer about another word than the one that they hold was taken."""
+    taken = [event for event in step.events if event[0] == "answered" and event[4]]
+    return [
+        name for name, word in zip(form.field_names(), step.after[0])
+        if any([event[1] == name and event[2] != word for event in taken])
+    ]
 
 
 def has_event(step, kind):

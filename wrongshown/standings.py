@@ -1,7 +1,7 @@
 """Standings and deeds: which values are ones, the start, and the deeds that books use."""
 
 from wrongshown.plain import has_items, is_name, is_whole
-from wrongshown.truth import are_words, far_entry, has_far
+from wrongshown.truth import are_words, has_far
 
 
 def is_standing(form, rule, value):
@@ -89,10 +89,8 @@ def is_known(form, name, value):
     """True for None, or for a word of a field with a far table with the answer to it."""
     if value is None:
         return True
-    if not has_far(form, name) or not has_items(value, 2):
-        return False
-    word, answer = value
-    return word in form.words and answer == far_entry(form, name, word)
+    first, looks, near, far = form.parts_of(name)
+    return far is not None and value in list(zip(form.words, far))
 
 
 def are_questions(form, value):

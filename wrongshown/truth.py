@@ -7,11 +7,7 @@ from wrongshown.plain import has_items
 def near_entry(form, words, name):
     """The entry of the near table of a field at given words."""
     check_words(form, words)
-    first, looks, near, far = form.parts_of(name)
-    entry = near[word_index(form, words, name)]
-    if looks is None:
-        return entry
-    return entry[word_index(form, words, looks)]
+    return near_of(form, words, name)
 
 
 def far_entry(form, name, word):
@@ -26,16 +22,31 @@ def far_entry(form, name, word):
 
 def true_error(form, words, name):
     """The near entry of a field at given words if it is a message, otherwise the far entry."""
-    entry = near_entry(form, words, name)
-    if entry is not None:
-        return entry
-    return far_entry(form, name, words[form.field_names().index(name)])
+    check_words(form, words)
+    return true_of(form, words, name)
 
 
 def true_errors(form, words):
     """The true error of each field at given words, in the order of the form."""
     check_words(form, words)
-    return tuple([true_error(form, words, name) for name in form.field_names()])
+    return tuple([true_of(form, words, name) for name in form.field_names()])
+
+
+def near_of(form, words, name):
+    """The near entry of a field at words that are not judged again."""
+    first, looks, near, far = form.parts_of(name)
+    entry = near[word_index(form, words, name)]
+    if looks is None:
+        return entry
+    return entry[word_index(form, words, looks)]
+
+
+def true_of(form, words, name):
+    """The true error of a field at words that are not judged again."""
+    entry = near_of(form, words, name)
+    if entry is not None:
+        return entry
+    return far_entry(form, name, words[form.field_names().index(name)])
 
 
 def has_far(form, name):
