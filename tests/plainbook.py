@@ -22,18 +22,26 @@ class PlainBook:
         self.resets = resets
         self.moves = plainway.deeds(form, resets)
         self.known = {}
-        self.runs = {plainway.start(form): ()}
-        layer = list(self.runs)
+
+    @functools.cached_property
+    def runs(self):
+        """A dict of the standings and their least runs, in order."""
+        runs = {plainway.start(self.form): ()}
+        layer = list(runs)
         while layer:
             following = []
             for standing in layer:
                 for deed in self.moves:
                     after = self.behind(standing, deed)
-                    if after not in self.runs:
-                        self.runs[after] = self.runs[standing] + (deed,)
+                    if after not in runs:
+                        runs[after] = runs[standing] + (deed,)
                         following.append(after)
             layer = following
-        self.standings = list(self.runs)
+        return runs
+
+    @functools.cached_property
+    def standings(self):
+        return list(self.runs)
 
     def outcome(self, standing, deed):
         """(standing, events, faults) of a deed; the events of a deed that is refused are a word."""
@@ -151,7 +159,18 @@ def race(left, right, first, second, most):
 
 def compared(left, right, most=None):
     """What race returns for the starts of two books."""
-    return race(left, right, left.standings[0], right.standings[0], most)
+    return race(left, right, plainway.start(left.form), plainway.start(right.form), most)
+
+
+def side_by_side(left, right, rows):
+    """These tuples of two standings, and all to which deeds lead from them."""
+    found = list(rows)
+    for first, second in found:
+        for deed in left.moves:
+            after = (left.behind(first, deed), right.behind(second, deed))
+            if after not in found:
+                found.append(after)
+    return found
 
 
 def subsets(rows, count):

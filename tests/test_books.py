@@ -4,7 +4,6 @@ import functools
 import random
 import unittest
 
-import plainway
 from asserts import Asserts
 from plainbook import PlainBook, cases, runs_up_to
 from samples import (

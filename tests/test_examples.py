@@ -1,13 +1,17 @@
-"""The blocks under "Examples" of the document, for the modules that have landed."""
+"""The blocks under "Examples" of the document."""
 
 import unittest
 
 from samples import example_form
 
+from wrongshown.alike import classes, difference, parting
 from wrongshown.books import Book, is_closed, shows_free
+from wrongshown.counting import least_sent, least_shown, most_asked
+from wrongshown.desk import Desk
 from wrongshown.doing import begin, step
 from wrongshown.errors import InvalidForm, InvalidText, LimitExceeded, TooManyAsked
 from wrongshown.forms import Form
+from wrongshown.heals import heals, rules_free
 from wrongshown.judge import faults
 from wrongshown.lists import least_pairs, needed
 from wrongshown.live import Live
@@ -173,6 +177,42 @@ class ExampleTests(unittest.TestCase):
             [needed(form), least_pairs(form, Rule("enter", "enter", "own"), ["unshown", "stale"])],
             [[("f", "g")], [(("f", "g"),)]],
         )
+
+    def test_a_difference(self):
+        form = short_form()
+        self.assertEqual(
+            difference((form, Rule("enter", "leave", "own")), (form, Rule("enter", "enter", "own"))),
+            (("enter", "f", "on"), ("enter", "f", "off")),
+        )
+
+    def test_classes_and_a_parting(self):
+        book = Book(short_form(), Rule("enter", "leave", "own"))
+        self.assertEqual(
+            [classes(book), parting(book, book.standings()[1], book.standings()[3])],
+            [[[0], [1], [2], [3], [4]], (("leave", "f"),)],
+        )
+
+    def test_counts(self):
+        book = Book(short_form(), Rule("enter", "leave", "own"))
+        self.assertEqual(
+            [most_asked(book), least_shown(book, "f", "m"), least_sent(book)],
+            [(0, ()), (("leave", "f"),), (("enter", "f", "on"), ("send",))],
+        )
+
+    def test_what_heals(self):
+        form = short_form()
+        candidates = [("rule", "wipes", True), ("rule", "checks", "enter")]
+        rules = [Rule("enter", "leave", "own"), Rule("enter", "leave", "own", wipes=True)]
+        self.assertEqual(
+            [heals(form, Rule("enter", "leave", "own"), "stale", candidates),
+             rules_free(form, ["stale"], rules)],
+            [[(("rule", "wipes", True),), (("rule", "checks", "enter"),)], [1]],
+        )
+
+    def test_a_desk(self):
+        desk = Desk(short_form(), [Rule("enter", "leave", "own")])
+        desk["f", "far"] = ("m", None)
+        self.assertEqual([len(desk), desk["f", "far"], desk.watched], [1, ("m", None), ()])
 
 
 if __name__ == "__main__":

@@ -7,7 +7,8 @@ import sys
 import unittest
 
 from wrongshown import (
-    books, doing, errors, forms, judge, lists, live, rules, standings, texts, truth, verdicts,
+    alike, books, counting, desk, doing, errors, forms, heals, judge, lists, live, rules, standings,
+    texts, truth, verdicts,
 )
 
 # Each function with its arguments; a method stands behind the name of its class.
@@ -109,11 +110,52 @@ SIGNATURES = {
         "needed": "(form)",
         "least_pairs": "(form, rule, kinds, *, resets=True, limit=2000)",
     },
+    alike: {
+        "difference": "(first, second, *, resets=True, limit=5000)",
+        "alike": "(first, second, *, resets=True, limit=5000)",
+        "pairing": "(first, second, *, resets=True, limit=5000)",
+        "is_pairing": "(first, second, value, *, resets=True)",
+        "parting": "(book, first, second)",
+        "classes": "(book)",
+        "rules_alike": "(form, rules, *, resets=True, limit=5000)",
+    },
+    counting: {
+        "most_asked": "(book)",
+        "never_taken": "(book)",
+        "least_shown": "(book, field, message)",
+        "least_sent": "(book)",
+    },
+    heals: {
+        "is_change": "(form, rule, value)",
+        "with_changes": "(form, rule, changes)",
+        "heals": "(form, rule, kind, candidates, *, resets=True, limit=2000)",
+        "rules_free": "(form, kinds, rules, *, resets=True, limit=2000)",
+    },
+    desk: {
+        "Desk.__init__": "(self, form, rules, *, resets=True, limit=2000)",
+        "Desk.set_bound": "(self, value)",
+        "Desk.__ior__": "(self, other)",
+        "Desk.__isub__": "(self, other)",
+        "Desk.__getitem__": "(self, at)",
+        "Desk.__setitem__": "(self, at, worth)",
+        "Desk.put_form": "(self, form)",
+        "Desk.__len__": "(self)",
+        "Desk.undo": "(self)",
+        "Desk.redo": "(self)",
+        "Desk.verdicts": "(self)",
+        "Desk.attempt": "(self, edits)",
+    },
+}
+# The attributes that the interface lists, of objects that are made with what is left out.
+ATTRIBUTES = {
+    "Form": "words fields room", "Rule": "opens checks around wipes taken sending",
+    "Step": "deed before after events", "Live": "form rule errors waiting",
+    "Book": "form rule resets limit", "Desk": "current watched bound",
 }
 # Properties of classes; a class that is listed without one has none.
 PROPERTIES = {
     forms.Form: [], rules.Rule: [], doing.Step: [], live.Live: ["errors", "waiting"], books.Book: [],
-    verdicts.Verdict: [],
+    verdicts.Verdict: [], desk.Desk: [],
 }
 
 
@@ -158,6 +200,20 @@ class InterfaceTests(unittest.TestCase):
             self.assertIn(kind.__name__, defined_in(module))
             found = [name for name, item in vars(kind).items() if isinstance(item, property)]
             self.assertEqual(sorted(found), PROPERTIES[kind])
+
+    def test_the_attributes_of_new_objects(self):
+        form = forms.Form(("off", "on"), (("f", ("off", None, (None, "m"), None)),))
+        rule = rules.Rule("enter", "enter", "own")
+        for item in (form, rule, doing.begin(form, rule), live.Live(form, rule), books.Book(form, rule),
+                     desk.Desk(form, [rule])):
+            for name in ATTRIBUTES[item.__class__.__name__].split():
+                self.assertTrue(hasattr(item, name), name)
+
+    def test_every_module_of_the_document_is_here(self):
+        names = sorted(module.__name__.split(".")[1] for module in [*SIGNATURES, errors])
+        self.assertEqual(names, (
+            "alike books counting desk doing errors forms heals judge lists live rules standings"
+            " texts truth verdicts").split())
 
     def test_the_tuples_of_names(self):
         self.assertIsInstance(judge.KINDS, tuple)

@@ -96,6 +96,11 @@ def least_path(graph, start, goal):
     return trail.run_to(trail.places[goal]) if goal in trail.places else None
 
 
+def fault_kinds(form, rule, resets, limit):
+    """A list of the kinds of the faults of the book of a form under a rule."""
+    return Book(form, rule, resets=resets, limit=limit).verdict().kinds()
+
+
 def is_closed(form, rule, value, *, resets=True):
     """True if a value, any value, is a list of standings from which no deed leads away."""
     return closed_graph(form, rule, value, resets) is not None

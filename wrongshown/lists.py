@@ -1,6 +1,6 @@
 """Which fields have to be checked with which others."""
 
-from wrongshown.books import Book
+from wrongshown.books import fault_kinds
 from wrongshown.guards import MOST_STANDINGS, check_bound, check_kinds
 from wrongshown.picks import picks
 
@@ -40,5 +40,4 @@ def least_pairs(form, rule, kinds, *, resets=True, limit=2000):
 
 def serves(form, rule, kinds, resets, limit):
     """True if the book of a form under a rule has no fault of any of some kinds."""
-    found = Book(form, rule, resets=resets, limit=limit).verdict().kinds()
-    return not any([kind in kinds for kind in found])
+    return not any([kind in kinds for kind in fault_kinds(form, rule, resets, limit)])
