@@ -121,6 +121,17 @@ class PlainBook:
         return race(self, self, first, second, None)[1]
 
 
+PLAIN_BOOKS = {}
+
+
+def plain_book(form, rule, resets=True):
+    """A PlainBook; the same one for equal forms and rules, as it keeps what it worked out."""
+    key = (form.words, form.fields, form.room, str(rule), resets)
+    if key not in PLAIN_BOOKS:
+        PLAIN_BOOKS[key] = PlainBook(form, rule, resets)
+    return PLAIN_BOOKS[key]
+
+
 def runs_up_to(moves, length):
     """All runs of at most length deeds, in their order."""
     for many in range(length + 1):
@@ -185,5 +196,5 @@ def cases():
     for number, form in enumerate(small_forms()):
         for turn in range(8):
             rule = rules[(number * 37 + turn * 83) % len(rules)]
-            found.append(PlainBook(form, rule, turn % 3 != 1))
+            found.append(plain_book(form, rule, turn % 3 != 1))
     return found

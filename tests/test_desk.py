@@ -4,7 +4,7 @@ import random
 import unittest
 
 from asserts import Asserts
-from plainbook import PlainBook
+from plainbook import plain_book
 from samples import example_form, extreme_values, lone_form, odd_values, small_forms, two_far_form
 
 from wrongshown.books import Book
@@ -332,7 +332,7 @@ class VerdictTests(DeskTests):
     def wanted(self, form, kinds, resets=True, bound=2000):
         found = []
         for rule in RULES:
-            book = PlainBook(form, rule, resets)
+            book = plain_book(form, rule, resets)
             pairs = [pair for pair in book.faults() if pair[0] in kinds]
             found.append(None if len(book.standings) > bound else Verdict(pairs))
         return found
@@ -382,7 +382,7 @@ class VerdictTests(DeskTests):
             watched = dice.sample(KINDS, 4)
             for kind in watched:
                 desk |= kind
-            wanted = [Verdict([pair for pair in PlainBook(form, rule).faults() if pair[0] in watched])
+            wanted = [Verdict([pair for pair in plain_book(form, rule).faults() if pair[0] in watched])
                       for rule in rules]
             self.assertEqual(desk.verdicts(), wanted)
 

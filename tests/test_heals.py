@@ -5,7 +5,7 @@ import random
 import unittest
 
 from asserts import Asserts
-from plainbook import PlainBook
+from plainbook import plain_book
 from samples import (
     example_form, extreme_values, lone_form, many_rules, odd_values, small_forms, two_far_form,
 )
@@ -49,7 +49,7 @@ def made(form, rule, changes):
 
 def plain_heals(form, rule, kind, candidates, resets=True):
     """The sets that heal, and the greatest number of standings of the books that are needed."""
-    book = PlainBook(form, rule, resets)
+    book = plain_book(form, rule, resets)
     most = len(book.standings)
     before = book.kinds()
     if kind not in before:
@@ -59,7 +59,7 @@ def plain_heals(form, rule, kind, candidates, resets=True):
         for changes in itertools.combinations(candidates, count):
             if len({aim(change) for change in changes}) < count:
                 continue
-            book = PlainBook(*made(form, rule, changes), resets)
+            book = plain_book(*made(form, rule, changes), resets)
             most = max(most, len(book.standings))
             if book.kinds() <= before - {kind}:
                 found.append(changes)
@@ -308,7 +308,7 @@ class HealsTests(Asserts):
                 candidates = dice.sample(every, dice.choice([1, 2, 3, 4]))
                 if turn % 2:
                     candidates = good[:2 + turn % 3] + [item for item in candidates[:2] if item not in good]
-                kinds = sorted(PlainBook(form, rule, resets).kinds(), key=KINDS.index)
+                kinds = sorted(plain_book(form, rule, resets).kinds(), key=KINDS.index)
                 kind = dice.choice(kinds) if kinds and turn else dice.choice(KINDS)
                 wanted, most = plain_heals(form, rule, kind, candidates, resets)
                 for passed in (candidates, tuple(candidates)):
@@ -410,10 +410,10 @@ class RulesFreeTests(Asserts):
         dice = random.Random(33)
         lengths = set()
         for form in small_forms()[:7]:
-            for many in (1, 3, 6) if len(form.words) < 3 else (1, 3):
+            for many in (1, 3, 6) if len(form.words) < 3 else (2,):
                 rules = [dice.choice(many_rules()) for _ in range(many)]
                 resets = dice.random() < 0.5
-                books = [PlainBook(form, rule, resets) for rule in rules]
+                books = [plain_book(form, rule, resets) for rule in rules]
                 for kinds in ([], ["stale"], ("unshown", "full"), ["elder", "elder"], list(KINDS)):
                     wanted = [at for at, book in enumerate(books) if not book.kinds() & set(kinds)]
                     self.assertEqual(rules_free(form, kinds, rules, resets=resets), wanted)

@@ -258,6 +258,35 @@ class StatementTests(unittest.TestCase):
                 self.assertIsInstance(node.exc, ast.Call, f"{path}:{node.lineno}")
                 self.assertIsInstance(node.exc.func, ast.Name, f"{path}:{node.lineno}")
 
+    def test_l19_handlers_name_own_errors(self):
+        own = {node.name for path, node in nodes(ast.ClassDef) if path.name == "errors.py"}
+        for path, node in nodes(ast.ExceptHandler):
+            self.assertIsNotNone(node.type, f"{path}:{node.lineno}")
+            names = {item.id for item in ast.walk(node.type) if isinstance(item, ast.Name)}
+            self.assertLessEqual(names, own, f"{path}:{node.lineno}")
+
+    def test_l7_no_stars_in_calls(self):
+        for path, node in nodes(ast.Call):
+            for item in node.args:
+                self.assertNotIsInstance(item, ast.Starred, f"{path}:{node.lineno}")
+
+    def test_l22_no_keywords_for_builtins(self):
+        for path, node in nodes(ast.Call):
+            if getattr(node.func, "id", getattr(node.func, "attr", "")) in BUILTINS | BUILTIN_METHODS:
+                self.assertEqual(node.keywords, [], f"{path}:{node.lineno}")
+
+    def test_l24_sets_stand_directly_in_sorted_or_len(self):
+        """The package stores no set; this is narrower than the rule."""
+        for path, tree in trees():
+            allowed = set()
+            for node in ast.walk(tree):
+                if isinstance(node, ast.Call) and getattr(node.func, "id", "") in ("sorted", "len"):
+                    allowed.update(node.args)
+            for node in ast.walk(tree):
+                made = isinstance(node, ast.Call) and getattr(node.func, "id", "") in ("set", "frozenset")
+                if made or isinstance(node, (ast.Set, ast.SetComp)):
+                    self.assertIn(node, allowed, f"{path}:{node.lineno}")
+
     def test_l23_iterated_at_once(self):
         takers = "list tuple dict sorted sum any all enumerate zip min max len reversed join".split()
         for path, tree in trees():

@@ -4,7 +4,7 @@ import itertools
 import unittest
 
 from asserts import Asserts
-from plainbook import PlainBook, subsets
+from plainbook import plain_book, subsets
 from samples import (
     example_form, extreme_values, lone_form, many_forms, odd_values, small_forms, two_far_form,
 )
@@ -45,7 +45,7 @@ def plain_least_pairs(form, rule, kinds, resets=True):
     for count in range(len(possible(form)) + 1):
         found = []
         for pairs in subsets(possible(form), count):
-            book = PlainBook(form, rule.with_part("around", pairs), resets)
+            book = plain_book(form, rule.with_part("around", pairs), resets)
             most = max(most, len(book.standings))
             if not book.kinds() & set(kinds):
                 found.append(pairs)

@@ -8,26 +8,25 @@ KINDS = ("unshown", "stale", "elder", "sent", "early", "stuck", "full")
 
 def faults(form, rule, step):
     """A list of the faults (kind, field) of a Step, by the order of KINDS and of the fields."""
-    truths = true_errors(form, step.after[0])
     pairs = []
     if is_at_rest(step.after):
-        pairs.extend(faults_at_rest(form, step.after, truths))
+        pairs.extend(faults_at_rest(form, step.after))
     pairs.extend([("elder", name) for name in elders(form, step)])
     if has_event(step, "sent"):
-        pairs.extend(faults_of_sending(form, step.after, truths))
+        pairs.extend(faults_of_sending(form, step.after))
     return pairs
 
 
-def faults_at_rest(form, standing, truths):
+def faults_at_rest(form, standing):
     """The faults "unshown" and "stale" of a standing at rest."""
     words, opened, errors, known, asked, waiting = standing
     rows = [
-        (name, error, truth)
-        for name, flag, error, truth in zip(form.field_names(), opened, errors, truths)
+        (name, error)
+        for name, flag, error, truth in zip(form.field_names(), opened, errors, true_errors(form, words))
         if flag and error != truth
     ]
-    unshown = [("unshown", name) for name, error, truth in rows if error is None]
-    stale = [("stale", name) for name, error, truth in rows if error is not None]
+    unshown = [("unshown", name) for name, error in rows if error is None]
+    stale = [("stale", name) for name, error in rows if error is not None]
     return unshown + stale
 
 
@@ -45,12 +44,13 @@ def has_event(step, kind):
     return any([event[0] == kind for event in step.events])
 
 
-def faults_of_sending(form, standing, truths):
+def faults_of_sending(form, standing):
     """The faults "sent" and "early" of a form that was sent."""
+    words, opened, errors, known, asked, waiting = standing
+    truths = true_errors(form, words)
     pairs = [
         ("sent", name) for name, truth in zip(form.field_names(), truths) if truth is not None
     ]
-    words, opened, errors, known, asked, waiting = standing
     if asked != ():
         pairs.append(("early", ""))
     return pairs
